@@ -1,0 +1,1 @@
+"""Fitsizes: which sizes go through a pipeline of windows, and what needs what."""
