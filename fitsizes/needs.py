@@ -50,7 +50,9 @@ def cells_using(step, first, last):
 
 
 def within(bounds, size):
-    """Return the ranges of the cells of a row of a size that are within first and last bounds."""
+    """Return the ranges of the cells within first and last bounds of a row of a size, or of an endless one: None."""
+    if size is None:
+        return [bounds]
     first = max(bounds[0], 0)
     last = min(bounds[1], size - 1)
     if first > last:
@@ -70,7 +72,11 @@ def put_together(ranges):
 
 
 def needed_rows(pipeline, sizes, first, last):
-    """Return for each row the ranges of its cells that the output cells from first to last need."""
+    """Return for each row the ranges of its cells that the output cells from first to last need.
+
+    The sizes are those of the rows, or None for each of them: endless rows, which are as all rows are that are great
+    enough, far from their ends.
+    """
     steps = pipeline.steps
     found = [[] for _ in sizes]
     found[-1] = [(first, last)]

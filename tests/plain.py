@@ -84,6 +84,37 @@ def plain_table(steps, size):
     return rows[-1]
 
 
+def plain_needs(steps, size):
+    """For each output cell the list of the sets of the cells of each row that it needs, cell by cell [8]."""
+    sizes = plain_sizes(steps, size)
+    told = []
+    for cell in range(sizes[-1]):
+        needed = [set() for _ in sizes]
+        needed[-1].add(cell)
+        for number in reversed(range(len(steps))):
+            for one in needed[number + 1]:
+                for row, place in plain_uses(steps[number], one, sizes):
+                    needed[row].add(place)
+        told.append(needed)
+    return told
+
+
+def plain_kept(table, row):
+    """For each output cell the set of the cells of a row that are kept while it is made [10]; table: plain_needs."""
+    first, last = {}, {}
+    for cell, needed in enumerate(table):
+        for one in needed[row]:
+            first.setdefault(one, cell)
+            last[one] = cell
+    return [{one for one in first if first[one] <= cell <= last[one]} for cell in range(len(table))]
+
+
+def plain_piece(table, count):
+    """The greatest number of input cells that so many neighbouring outputs need, 0 if there are not so many."""
+    pieces = [table[cell:cell + count] for cell in range(len(table) - count + 1)]
+    return max([len(set().union(*[needed[0] for needed in piece])) for piece in pieces], default=0)
+
+
 def as_ranges(cells):
     """The ranges of a set of cells [8]."""
     told = []
@@ -199,6 +230,25 @@ def spread_steps(chance, most=20):
         steps.append(("join", at + 1, at + 2))
     more = random_step(chance, steps, chance.choice(["window", "repeat"]))
     return steps if more is None else steps + [more]
+
+
+def steady_steps(chance):
+    """Steps that all sizes of some classes fit: with windows, joins and more behind them."""
+    size = chance.randint(1, 40)
+    kind = chance.randint(0, 3)
+    if kind == 0:
+        steps = spread_steps(chance)
+    elif kind == 1:
+        steps = round_steps(chance, size)
+    elif kind == 2:
+        steps = two_round_steps(chance, size)
+    else:
+        steps = random_steps(chance, 5)
+    while len(steps) < 8 and chance.randint(0, 2):
+        step = random_step(chance, steps, chance.choice(["window", "repeat", "crop", "pad"]))
+        if step is not None:
+            steps.append(step)
+    return steps
 
 
 def two_round_steps(chance, size):
