@@ -4,7 +4,7 @@ from math import lcm
 
 from fitsizes.errors import InvalidNumber
 from fitsizes.lines import lead_at
-from fitsizes.sizes import check_size, fits, row_lines
+from fitsizes.sizes import check_size, row_lines
 
 
 def joined_lines(pipeline, lines):
@@ -64,16 +64,24 @@ def form_of_classes(pairs, low):
     return ("classes", sizes[0], period, remainders(sizes, period))
 
 
+def form_where(lines, pairs, low):
+    """Return the form of the integers from low on where all lines are at least 1 and those of each pair are equal."""
+    for line in lines:
+        if line.rise > 0:
+            # Lines never fall: from this place on the line is at least 1, and below it it is not.
+            low = max(low, line.least_at(1))
+        elif line.at(0) < 1:
+            return ("some", [])
+    for first, second in pairs:
+        if not rise_alike(first, second):
+            return ("some", [place for place in all_meetings(first, second, low) if are_equal_at(pairs, place)])
+    return form_of_classes(pairs, low)
+
+
 def fitting_sizes(pipeline):
     """Return the form of the sizes that fit a pipeline."""
     lines = row_lines(pipeline)
-    # Lines never fall: from this size on all rows have a cell, and below it one has none.
-    low = max([line.least_at(1) for line in lines])
-    pairs = joined_lines(pipeline, lines)
-    for first, second in pairs:
-        if not rise_alike(first, second):
-            return ("some", [size for size in all_meetings(first, second, low) if fits(pipeline, size)])
-    return form_of_classes(pairs, low)
+    return form_where(lines, joined_lines(pipeline, lines), 1)
 
 
 def count_to(period, residues, last):

@@ -24,16 +24,20 @@ def has_right_numbers(step):
     return min(numbers) >= 0
 
 
-def is_right(step, number):
-    """Tell whether a step may have a number in a pipeline."""
+def is_step(step):
+    """Tell whether a step may have some number in a pipeline: it is right but for how many rows there are."""
     if len(step) == 0 or len(step) != ITEMS.get(step[0]):
         return False
-    rows = named_rows(step)
-    if min(rows) < 0 or max(rows) > number:
+    if min(named_rows(step)) < 0:
         return False
     if step[0] == "join":
         return step[1] != step[2]
     return has_right_numbers(step)
+
+
+def is_right(step, number):
+    """Tell whether a step may have a number in a pipeline."""
+    return is_step(step) and max(named_rows(step)) <= number
 
 
 def moved(step, count):

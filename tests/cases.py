@@ -3,6 +3,20 @@
 import inspect
 import unittest
 
+from fitsizes.fitting import fitting_sizes
+from fitsizes.pipelines import Pipeline
+from tests.plain import steady_steps
+
+
+def steady_pipelines(chance, many):
+    """Yield so many lists of steps that all sizes of some classes fit, with their pipelines."""
+    while many > 0:
+        steps = steady_steps(chance)
+        pipeline = Pipeline(steps)
+        if fitting_sizes(pipeline)[0] == "classes":
+            many -= 1
+            yield steps, pipeline
+
 
 class Case(unittest.TestCase):
 

@@ -11,20 +11,16 @@ from fitsizes.fitting import fitting_sizes
 from fitsizes.needs import needs, reach, reached_by
 from fitsizes.pipelines import Pipeline
 from fitsizes.sizes import fits, size_line, sizes_at
+from tests.cases import Case
 from tests.plain import (APART, BRIDGE, TWICE, as_ranges, levelled_steps, moved_ranges, plain_fits, plain_sizes,
                          plain_table, random_steps, round_steps, spread_steps)
 
 FAR = 10 ** 33
+# What the period of each row divides: no product of strides up to 60 has higher powers of 2, 3 and 5.
+ROUNDS = 2 ** 5 * 3 ** 3 * 5 ** 2
 
 
-class NeedsCase(unittest.TestCase):
-
-    def check_raises(self, error, value, function, *args, **named):
-        with self.subTest(function=function.__name__, args=args[1:], named=named):
-            with self.assertRaises(error) as caught:
-                function(*args, **named)
-            self.assertIs(type(caught.exception), error)
-            self.assertEqual(caught.exception.value, value)
+class NeedsCase(Case):
 
     def check_needs(self, steps, size, told):
         """told: the ranges by the (first, last) output cells."""
@@ -318,7 +314,7 @@ class FarTest(NeedsCase):
             while not plain_fits(steps, size):
                 size += 1
             line = size_line(pipeline, len(steps))
-            turns = 60 * 24 * chance.randint(10 ** 28, 10 ** 29)
+            turns = ROUNDS * chance.randint(10 ** 28, 10 ** 29)
             by, out_by = turns, turns // len(line) * line.rise
             self.assertTrue(fits(pipeline, size + by))
             out = plain_sizes(steps, size)[-1]

@@ -7,14 +7,13 @@ from math import gcd
 
 from fitsizes import pieces as module
 from fitsizes.errors import InvalidNumber, NotSteady
-from fitsizes.fitting import fitting_sizes, next_fitting
+from fitsizes.fitting import next_fitting
 from fitsizes.needs import needs
 from fitsizes.pieces import greatest_piece, steady_piece, steady_step
 from fitsizes.pipelines import Pipeline
 from fitsizes.sizes import size_line, sizes_at
-from tests.cases import Case
-from tests.plain import (APART, BRIDGE, TWICE, plain_fits, plain_needs, plain_piece, plain_sizes, round_steps,
-                         spread_steps, steady_steps, two_round_steps)
+from tests.cases import Case, steady_pipelines
+from tests.plain import APART, BRIDGE, TWICE, plain_fits, plain_needs, plain_piece, plain_sizes
 
 FAR = 10 ** 33
 
@@ -104,13 +103,7 @@ class PieceTest(Case):
 
     def test_compared_with_needs_far_from_both_ends(self):
         chance = random.Random(71)
-        tried = 0
-        while tried < 60:
-            steps = steady_steps(chance)
-            pipeline = Pipeline(steps)
-            if fitting_sizes(pipeline)[0] == "some":
-                continue
-            tried += 1
+        for steps, pipeline in steady_pipelines(chance, 60):
             for count in (1, 2, chance.randint(3, 9), chance.randint(10, 99), chance.randint(100, 9999), FAR,
                           chance.randint(10 ** 20, FAR)):
                 self.assertEqual(steady_piece(pipeline, count), self.compared(steps, count), (steps, count))
@@ -118,14 +111,10 @@ class PieceTest(Case):
     def test_compared_with_going_cell_by_cell(self):
         chance = random.Random(72)
         equal = 0
-        tried = 0
-        while tried < 80:
-            steps = steady_steps(chance)
+        for steps, pipeline in steady_pipelines(chance, 80):
             sizes = [size for size in range(1, 220) if plain_fits(steps, size) and max(plain_sizes(steps, size)) < 700]
-            pipeline = Pipeline(steps)
-            if fitting_sizes(pipeline)[0] == "some" or not sizes:
+            if not sizes:
                 continue
-            tried += 1
             counts = [1, 2, 3, chance.randint(4, 12), chance.randint(4, 40)]
             steady = [steady_piece(pipeline, count) for count in counts]
             self.assertEqual(sorted(steady[:3]), steady[:3])
@@ -164,21 +153,14 @@ class GreatestTest(Case):
 
     def test_exactly_the_greatest(self):
         chance = random.Random(73)
-        tried = 0
         none = 0
-        while tried < 80:
-            steps = [steady_steps, spread_steps, lambda c: round_steps(c, c.randint(1, 40)),
-                     lambda c: two_round_steps(c, c.randint(1, 40))][tried % 4](chance)
-            pipeline = Pipeline(steps)
-            if fitting_sizes(pipeline)[0] == "some":
-                continue
-            tried += 1
+        for _, pipeline in steady_pipelines(chance, 100):
             for most in [1, 2, 3, 5, 9, 17, 30, chance.randint(31, 200), chance.randint(10 ** 20, FAR), FAR]:
                 count = greatest_piece(pipeline, most)
                 self.assertGreaterEqual(count, 0)
                 if count > 0:
-                    self.assertLessEqual(steady_piece(pipeline, count), most, (steps, most))
-                self.assertGreater(steady_piece(pipeline, count + 1), most, (steps, most))
+                    self.assertLessEqual(steady_piece(pipeline, count), most, (pipeline.steps, most))
+                self.assertGreater(steady_piece(pipeline, count + 1), most, (pipeline.steps, most))
                 none += count == 0
         self.assertGreater(none, 50)
 
@@ -214,17 +196,11 @@ class StepTest(Case):
 
     def test_by_the_line_of_the_output(self):
         chance = random.Random(74)
-        tried = 0
-        while tried < 80:
-            steps = steady_steps(chance)
-            pipeline = Pipeline(steps)
-            if fitting_sizes(pipeline)[0] == "some":
-                continue
-            tried += 1
+        for steps, pipeline in steady_pipelines(chance, 80):
             outputs, inputs = steady_step(pipeline)
             self.assertEqual(gcd(outputs, inputs), 1)
             line = size_line(pipeline, len(steps))
-            self.assertEqual(line.at(3 + 1440 * inputs) - line.at(3), 1440 * outputs)
+            self.assertEqual(line.at(3 + 21600 * inputs) - line.at(3), 21600 * outputs)
 
 
 class ErrorsTest(Case):

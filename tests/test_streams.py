@@ -6,15 +6,17 @@ import unittest
 
 from fitsizes import streams as module
 from fitsizes.errors import InvalidCell, InvalidNumber, InvalidRow, NotFitting, NotSteady
-from fitsizes.fitting import fitting_sizes, next_fitting
+from fitsizes.fitting import next_fitting
 from fitsizes.pipelines import Pipeline
 from fitsizes.sizes import sizes_at
 from fitsizes.streams import kept, steady_kept
-from tests.cases import Case
+from tests.cases import Case, steady_pipelines
 from tests.plain import (APART, BRIDGE, TWICE, as_ranges, levelled_steps, moved_ranges, plain_fits, plain_kept,
                          plain_needs, plain_sizes, random_steps, round_steps, spread_steps, steady_steps)
 
 FAR = 10 ** 33
+# What the period of each row divides: no product of strides up to 60 has higher powers of 2, 3 and 5.
+ROUNDS = 2 ** 5 * 3 ** 3 * 5 ** 2
 
 # What fits no size.
 NEVER = [("pad", 0, 1, 0), ("join", 0, 1)]
@@ -180,16 +182,10 @@ class FarTest(Case):
     def test_moved_by_whole_rounds(self):
         """What is kept far on the right is what is kept near the right end of a small size, moved."""
         chance = random.Random(62)
-        tried = 0
-        while tried < 100:
-            steps = steady_steps(chance)
-            pipeline = Pipeline(steps)
-            if fitting_sizes(pipeline)[0] == "some":
-                continue
-            tried += 1
+        for steps, pipeline in steady_pipelines(chance, 100):
             size = next_fitting(pipeline, 400)
             near = sizes_at(pipeline, size)
-            turns = 60 * 24 * chance.randint(10 ** 28, 10 ** 29)
+            turns = ROUNDS * chance.randint(10 ** 28, 10 ** 29)
             far = sizes_at(pipeline, size + turns)
             row = chance.randint(0, len(steps))
             cell = chance.randrange(near[-1])
@@ -278,14 +274,10 @@ class SteadyTest(Case):
     def test_compared_with_going_cell_by_cell(self):
         chance = random.Random(63)
         equal = 0
-        tried = 0
-        while tried < 120:
-            steps = steady_steps(chance)
+        for steps, pipeline in steady_pipelines(chance, 120):
             sizes = [size for size in range(1, 260) if plain_fits(steps, size) and max(plain_sizes(steps, size)) < 700]
-            pipeline = Pipeline(steps)
-            if fitting_sizes(pipeline)[0] == "some" or not sizes:
+            if not sizes:
                 continue
-            tried += 1
             steady = [steady_kept(pipeline, row) for row in range(len(steps) + 1)]
             for size in {sizes[-1], chance.choice(sizes)}:
                 table = plain_needs(steps, size)
@@ -296,13 +288,7 @@ class SteadyTest(Case):
 
     def test_reached_far_from_both_ends(self):
         chance = random.Random(64)
-        tried = 0
-        while tried < 60:
-            steps = steady_steps(chance)
-            pipeline = Pipeline(steps)
-            if fitting_sizes(pipeline)[0] == "some":
-                continue
-            tried += 1
+        for steps, pipeline in steady_pipelines(chance, 60):
             size = next_fitting(pipeline, FAR - chance.randint(0, 10 ** 30))
             middle = sizes_at(pipeline, size)[-1] // 2
             row = chance.randint(0, len(steps))
